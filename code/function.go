@@ -1,5 +1,6 @@
 // Package code: functions as the program holds them. They are read from a
-// text, and are right from then on; they can be weighed and run.
+// text, and are right from then on; they can be weighed, run, changed and
+// written again. What changes one makes another, and leaves it as it was.
 package code
 
 // Function is a function that is right.
@@ -88,6 +89,9 @@ func (f Function) edges() (map[Edge]int, []int) {
 	return places, counts
 }
 
+// ConstWeight is what a const weighs.
+const ConstWeight = 1
+
 // Weight is the sum of the weights of its values.
 func (f Function) Weight() int {
 	sum := 0
@@ -102,7 +106,7 @@ func (f Function) Weight() int {
 func weight(thing Thing) int {
 	switch thing := thing.(type) {
 	case Const:
-		return 1
+		return ConstWeight
 	case Apply:
 		return thing.Op.Weight()
 	}

@@ -52,6 +52,9 @@ func OpNamed(name string) (Op, bool) {
 	return 0, false
 }
 
+// Name is what the operation is called in texts.
+func (op Op) Name() string { return opTable[op].name }
+
 // Of is how many values the operation takes.
 func (op Op) Of() int { return opTable[op].of }
 

@@ -1,131 +1,64 @@
 package code
 
 import (
-	"math"
 	"strings"
 
 	"chisel/api"
+	"chisel/scan"
 )
 
-const maxDigits = 10
-
-// Read is the function of the text. It gives up by a panic with a Fault: with
-// ErrText, if the text is no function, with ErrForm, if that is not right.
+// Read is the function of the text. It gives up by a panic with a scan.Fault:
+// with ErrText, if the text is no function, with ErrForm, if that is not right.
 func Read(text string) Function {
 	if len(text) > api.MaxText {
-		panic(Fault{api.ErrText, 0})
+		panic(scan.Fault{Why: api.ErrText})
 	}
-	r := reader{rest: text, line: 1}
+	r := reader{Reader: scan.Reader{Rest: text, Line: 1, Why: api.ErrText}}
 	f := r.function()
 	f.requireRight()
 	return f
 }
 
-// reader goes through a text, and holds what is still ahead of it.
 type reader struct {
-	rest string
-	line int
+	scan.Reader
 	args int // how many the function has
 }
 
-func (r *reader) fail() { panic(Fault{api.ErrText, r.line}) }
-
-// skip goes past the word, if it is next.
-func (r *reader) skip(word string) bool {
-	rest, found := strings.CutPrefix(r.rest, word)
-	r.rest = rest
-	return found
-}
-
-func (r *reader) take(word string) {
-	if !r.skip(word) {
-		r.fail()
-	}
-}
-
 func (r *reader) lineEnd() {
-	r.take("\n")
-	r.line++
-}
-
-// run takes all that comes next of the bytes from low to high.
-func (r *reader) run(low, high byte) string {
-	n := 0
-	for n < len(r.rest) && low <= r.rest[n] && r.rest[n] <= high {
-		n++
-	}
-	taken := r.rest[:n]
-	r.rest = r.rest[n:]
-	return taken
-}
-
-// number is of 64 bits, because ten digits may be more than 32 hold.
-func (r *reader) number() int64 {
-	digits := r.run('0', '9')
-	if digits == "" || len(digits) > maxDigits || digits[0] == '0' && digits != "0" {
-		r.fail()
-	}
-	n := int64(0)
-	for i := range len(digits) {
-		n = 10*n + int64(digits[i]-'0')
-	}
-	return n
-}
-
-// below takes a number that must be less than the limit.
-func (r *reader) below(limit int) int {
-	n := r.number()
-	if n >= int64(limit) {
-		r.fail()
-	}
-	return int(n)
-}
-
-func (r *reader) signed() int32 {
-	minus := r.skip("-")
-	n := r.number()
-	if minus && n == 0 {
-		r.fail()
-	}
-	if minus {
-		n = -n
-	}
-	if n < math.MinInt32 || n > math.MaxInt32 {
-		r.fail()
-	}
-	return int32(n)
+	r.Take("\n")
+	r.Line++
 }
 
 func (r *reader) value() int {
-	r.take("v")
-	return r.below(api.MaxValues)
+	r.Take("v")
+	return r.Below(api.MaxValues)
 }
 
 // target may be a block that there is not: the text is a function all the
 // same, so this fault waits until all of the text is read. All numbers that no
 // block can have are as wrong as the least of them.
 func (r *reader) target() int {
-	r.take("b")
-	return int(min(r.number(), api.MaxBlocks))
+	r.Take("b")
+	return int(min(r.Number(), api.MaxBlocks))
 }
 
 func (r *reader) function() Function {
-	r.take("func ")
-	r.args = r.below(api.MaxArgs + 1)
+	r.Take("func ")
+	r.args = r.Below(api.MaxArgs + 1)
 	r.lineEnd()
 	blocks := []Block{r.block(0)}
-	for r.rest != "" {
+	for r.Rest != "" {
 		blocks = append(blocks, r.block(len(blocks)))
 	}
 	return Function{Args: r.args, Blocks: blocks}
 }
 
 func (r *reader) block(number int) Block {
-	r.take("b")
-	if r.below(api.MaxBlocks) != number {
-		r.fail()
+	r.Take("b")
+	if r.Below(api.MaxBlocks) != number {
+		r.Fail()
 	}
-	r.take(":")
+	r.Take(":")
 	r.lineEnd()
 	values := r.values()
 	last := r.last()
@@ -136,13 +69,13 @@ func (r *reader) block(number int) Block {
 func (r *reader) values() []Value {
 	var values []Value
 	phis := true
-	for strings.HasPrefix(r.rest, "v") {
+	for strings.HasPrefix(r.Rest, "v") {
 		number := r.value()
-		r.take(" = ")
+		r.Take(" = ")
 		thing := r.thing()
 		_, phi := thing.(Phi)
 		if phi && !phis {
-			r.fail()
+			r.Fail()
 		}
 		phis = phi
 		r.lineEnd()
@@ -152,15 +85,15 @@ func (r *reader) values() []Value {
 }
 
 func (r *reader) thing() Thing {
-	switch word := r.run('a', 'z'); word {
+	switch word := r.Letters(); word {
 	case "phi":
 		return Phi{Of: r.phiValues()}
 	case "arg":
-		r.take(" ")
-		return Arg{Number: r.below(r.args)}
+		r.Take(" ")
+		return Arg{Number: r.Below(r.args)}
 	case "const":
-		r.take(" ")
-		return Const{Number: r.signed()}
+		r.Take(" ")
+		return Const{Number: r.Signed()}
 	default:
 		return r.apply(word)
 	}
@@ -168,7 +101,7 @@ func (r *reader) thing() Thing {
 
 func (r *reader) phiValues() []int {
 	var of []int
-	for r.skip(" ") {
+	for r.Skip(" ") {
 		of = append(of, r.value())
 	}
 	return of
@@ -177,36 +110,36 @@ func (r *reader) phiValues() []int {
 func (r *reader) apply(word string) Apply {
 	op, found := OpNamed(word)
 	if !found {
-		r.fail()
+		r.Fail()
 	}
 	of := make([]int, op.Of())
 	for i := range of {
-		r.take(" ")
+		r.Take(" ")
 		of[i] = r.value()
 	}
 	return Apply{Op: op, Of: of}
 }
 
 func (r *reader) last() Last {
-	switch word := r.run('a', 'z'); word {
+	switch word := r.Letters(); word {
 	case "ret":
-		r.take(" ")
+		r.Take(" ")
 		return Ret{Of: r.value()}
 	case "jump":
-		r.take(" ")
+		r.Take(" ")
 		return Jump{To: r.target()}
 	case "if":
 		return r.ifLast()
 	}
-	r.fail()
+	r.Fail()
 	return nil
 }
 
 func (r *reader) ifLast() If {
-	r.take(" ")
+	r.Take(" ")
 	of := r.value()
-	r.take(" ")
+	r.Take(" ")
 	then := r.target()
-	r.take(" ")
+	r.Take(" ")
 	return If{Of: of, Then: then, Else: r.target()}
 }

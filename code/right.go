@@ -1,33 +1,9 @@
 package code
 
-import "chisel/api"
-
-// set says of each v number whether it is in.
-type set [api.MaxValues]bool
-
-func (s set) hasAll(numbers []int) bool {
-	for _, n := range numbers {
-		if !s[n] {
-			return false
-		}
-	}
-	return true
-}
-
-func (s set) both(other set) set {
-	for n := range s {
-		s[n] = s[n] && other[n]
-	}
-	return s
-}
-
-func everyNumber() set {
-	var s set
-	for n := range s {
-		s[n] = true
-	}
-	return s
-}
+import (
+	"chisel/api"
+	"chisel/scan"
+)
 
 // requireRight gives up, if the function is not right. Whether the targets
 // are there comes ahead of all that follows them.
@@ -46,7 +22,7 @@ func (f Function) fail(block, index int) {
 	for _, earlier := range f.Blocks[:block] {
 		line += len(earlier.Values) + 2
 	}
-	panic(Fault{api.ErrForm, line})
+	panic(scan.Fault{Why: api.ErrForm, Where: line})
 }
 
 func (f Function) failLast(block int) { f.fail(block, len(f.Blocks[block].Values)) }
@@ -164,23 +140,4 @@ func (b Block) madeAtEnd(made set) set {
 		made[value.Number] = true
 	}
 	return made
-}
-
-// usesInPlace leaves phis aside: they use theirs at the ends of other blocks.
-func usesInPlace(thing Thing) []int {
-	switch thing := thing.(type) {
-	case Apply:
-		return thing.Of
-	}
-	return nil
-}
-
-func usesOfLast(last Last) []int {
-	switch last := last.(type) {
-	case Ret:
-		return []int{last.Of}
-	case If:
-		return []int{last.Of}
-	}
-	return nil
 }

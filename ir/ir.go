@@ -6,6 +6,7 @@ import (
 
 	"chisel/api"
 	"chisel/code"
+	"chisel/scan"
 )
 
 // Check looks through a function (P2).
@@ -35,16 +36,11 @@ func Run(text string, args []int, fuel int) (int, int, api.Errno) {
 	return function.Run(args, fuel)
 }
 
-// read catches what gives up within; every other panic is a fault of the
-// program itself, and goes on.
+// read catches what gives up within.
 func read(text string) (function code.Function, errno api.Errno) {
 	defer func() {
 		if caught := recover(); caught != nil {
-			fault, ok := caught.(code.Fault)
-			if !ok {
-				panic(caught)
-			}
-			errno = fault.Why
+			errno = scan.FaultOf(caught).Why
 		}
 	}()
 	return code.Read(text), api.OK
