@@ -241,7 +241,7 @@ func TestP5Picks(t *testing.T) {
 }
 
 // full has all v numbers but the last ones, of which it leaves so many free.
-// The values beside v58 are divs, so that none goes.
+// The values beside the mul are divs, so that none goes.
 func full(free int) string {
 	text := "func 1\nb0:\nv0 = arg 0\nv1 = const 8\n"
 	for i := 2; i < api.MaxValues-1-free; i++ {
