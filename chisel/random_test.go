@@ -324,6 +324,21 @@ const sound = `(add x 0) => x
 (mul #a #b) => !(mul #a #b)
 `
 
+// wantDoesTheSame runs both functions with these arguments, and tells what the
+// first one's run came to.
+func wantDoesTheSame(t *testing.T, before, after string, args []int) api.Errno {
+	t.Helper()
+	want, _, wantErrno := ir.Run(before, args, 2000)
+	if wantErrno == api.ErrFuel {
+		return wantErrno
+	}
+	got, _, gotErrno := ir.Run(after, args, api.MaxFuel)
+	if got != want || gotErrno != wantErrno {
+		t.Fatalf("Run(%q, %v) = %d, %d; of %q it was %d, %d", after, args, got, gotErrno, before, want, wantErrno)
+	}
+	return wantErrno
+}
+
 func TestP6WhatAFunctionDoes(t *testing.T) {
 	m := maker{Rand: rand.New(rand.NewSource(13))}
 	seen := map[api.Errno]int{}
@@ -339,16 +354,7 @@ func TestP6WhatAFunctionDoes(t *testing.T) {
 		}
 		steps += n
 		for range 4 {
-			args := []int{m.Intn(9) - 4, int(int32(m.Uint32()))}
-			want, _, wantErrno := ir.Run(text, args, 2000)
-			seen[wantErrno]++
-			if wantErrno == api.ErrFuel {
-				continue
-			}
-			got, _, gotErrno := ir.Run(after, args, api.MaxFuel)
-			if got != want || gotErrno != wantErrno {
-				t.Fatalf("Run(%q, %v) = %d, %d; of %q it was %d, %d", after, args, got, gotErrno, text, want, wantErrno)
-			}
+			seen[wantDoesTheSame(t, text, after, []int{m.Intn(9) - 4, int(int32(m.Uint32()))})]++
 		}
 	}
 	if seen[api.OK] < 5000 || seen[api.ErrTrap] < 1000 || steps < 5000 {

@@ -8,7 +8,13 @@ import (
 	"chisel/chisel"
 )
 
-func lines(l ...string) string { return strings.Join(l, "\n") + "\n" }
+func lines(l ...string) string {
+	text := ""
+	for _, line := range l {
+		text += line + "\n"
+	}
+	return text
+}
 
 func wantRules(t *testing.T, rules string, count, line int, errno api.Errno) {
 	t.Helper()
